@@ -1,0 +1,1 @@
+"""Signright: who may sign for a house, told by rules."""
