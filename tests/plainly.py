@@ -1,6 +1,6 @@
 """What the document says of groups, ladders and rules, said again over sets and shapes, to test the program by."""
 
-from functools import cmp_to_key
+from functools import cmp_to_key, lru_cache
 from itertools import combinations, product
 from random import Random
 
@@ -8,9 +8,10 @@ FIGURES = 10 ** 60 - 1
 OPENINGS = [("all(", 1), ("any(", 1)] + [(f"{many} of (", many) for many in range(1, 9)]
 
 
+@lru_cache(maxsize=None)
 def hands(group):
     """The set of the hands of a group, by the numbers that the document adds up."""
-    return {hand for hand, number in enumerate([1, 2, 4, 8, 16, 32]) if group // number % 2}
+    return frozenset(hand for hand, number in enumerate([1, 2, 4, 8, 16, 32]) if group // number % 2)
 
 
 def comes_before(one, two):
@@ -47,6 +48,34 @@ def six_handed_ladders():
     wide = [[sum(2 ** hand for hand in chosen) for chosen in combinations(range(6), size)] for size in range(7)]
     odd = [[], [1], [32], [1, 2], [3, 12, 48], [1, 6, 10, 12], [33, 18, 12], [16, 35, 41, 14], [31, 47], [7, 56]]
     return [in_order(ladder) for ladder in wide + odd]
+
+
+def chosen_ladders(count, many):
+    """So many ladders of groups of so many hands, by chance; the same ones at each run."""
+    chance = Random(5)
+    told = []
+    for turn in range(many):
+        groups = in_order(chance.randrange(2 ** count) for place in range(chance.randrange(1, 16)))
+        told.append([group for group in groups if not lets_by([step for step in groups if step != group], group)])
+    return told
+
+
+def sized_ladders(count):
+    """The ladders of all groups of a size, of so many hands."""
+    groups = in_order(range(2 ** count))
+    return [[group for group in groups if len(hands(group)) == size] for size in range(count + 1)]
+
+
+def many_ladders():
+    """Each ladder of one to four hands and some of five and six, each with the count of hands."""
+    for count in range(1, 5):
+        for ladder in all_ladders(count):
+            yield count, ladder
+    for count in [5, 6]:
+        for ladder in [[], [0]] + sized_ladders(count) + chosen_ladders(count, 150):
+            yield count, ladder
+    for ladder in six_handed_ladders():
+        yield 6, ladder
 
 
 def parts_of(shape):
